@@ -1,0 +1,1 @@
+"""Machines with clocks, played against a foe, at moments of any fineness."""

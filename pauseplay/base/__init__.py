@@ -1,0 +1,1 @@
+"""What all stages stand on: integers, fractions, stretches, points and bounds."""

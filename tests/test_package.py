@@ -1,0 +1,102 @@
+"""The head of the interface, and the rules for files: where names stand, how large files are, what they import."""
+
+import ast
+import importlib
+import inspect
+import unittest
+from pathlib import Path
+
+import pauseplay
+
+FOLDER = Path(pauseplay.__file__).parent
+
+FUNCTIONS = {
+    "pauseplay.base.bounds": {
+        "is_bound": "value",
+        "bound_sum": "one other",
+        "is_tighter": "one other",
+        "turned": "bound",
+        "does_keep": "bound fraction",
+    },
+    "pauseplay.base.points": {
+        "is_fraction": "value",
+        "is_pause": "value",
+        "lowest": "fraction",
+        "fraction_sum": "one other",
+        "compare": "one other",
+        "simplest": "least least_end greatest greatest_end",
+        "is_point": "clocks value",
+        "are_same": "one other",
+        "later": "point pause",
+        "set_back": "point clocks",
+        "shown": "point one other",
+    },
+}
+
+LIBRARY = ("gcd", "lcm", "isqrt", "comb", "perm", "factorial")
+
+
+def sources():
+    """Each file of the package with its text."""
+    return [(path, path.read_text(encoding="utf-8")) for path in sorted(FOLDER.rglob("*.py"))]
+
+
+class InterfaceTest(unittest.TestCase):
+    def test_each_function_is_defined_in_its_module(self):
+        for module_name, functions in FUNCTIONS.items():
+            module = importlib.import_module(module_name)
+            for name, parameters in functions.items():
+                with self.subTest(module=module_name, name=name):
+                    function = getattr(module, name)
+                    self.assertEqual(function.__module__, module_name)
+                    self.assertEqual(list(inspect.signature(function).parameters), parameters.split())
+
+
+class FilesTest(unittest.TestCase):
+    def test_the_package_holds_nothing_but_its_files(self):
+        for path in FOLDER.rglob("*"):
+            if "__pycache__" not in path.parts:
+                with self.subTest(path=path):
+                    self.assertTrue(path.is_dir() or path.suffix == ".py")
+
+    def test_each_folder_has_an_init(self):
+        for path, _ in sources():
+            self.assertTrue((path.parent / "__init__.py").exists(), path)
+
+    def test_lines_and_files_are_short_and_plain(self):
+        for path, text in sources():
+            with self.subTest(path=path):
+                lines = text.split("\n")
+                self.assertLessEqual(len(lines), 399)
+                self.assertLessEqual(max(map(len, lines)), 120)
+                self.assertEqual([sign for sign in text if sign != "\n" and not " " <= sign <= "~"], [])
+
+    def test_functions_are_short(self):
+        for path, text in sources():
+            for node in ast.walk(ast.parse(text)):
+                if isinstance(node, ast.FunctionDef):
+                    with self.subTest(path=path, name=node.name):
+                        self.assertLessEqual(node.end_lineno - node.lineno + 1, 40)
+
+    def test_imports_name_the_very_file_that_defines_the_name(self):
+        for path, text in sources():
+            for node in ast.walk(ast.parse(text)):
+                self.assertNotIsInstance(node, ast.Import, path)
+                if isinstance(node, ast.ImportFrom):
+                    with self.subTest(path=path, module=node.module):
+                        self.assert_import(node)
+
+    def assert_import(self, node):
+        if node.module == "math":
+            self.assertLessEqual({alias.name for alias in node.names}, set(LIBRARY))
+            return
+        self.assertEqual((node.module.split(".")[0], node.level), ("pauseplay", 0))
+        module = importlib.import_module(node.module)
+        for alias in node.names:
+            self.assertIsNone(alias.asname)
+            value = getattr(module, alias.name)
+            self.assertEqual(getattr(value, "__module__", node.module), node.module)
+
+
+if __name__ == "__main__":
+    unittest.main()
