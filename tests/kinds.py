@@ -55,6 +55,46 @@ NOT_POINTS = (
 
 NOT_CLOCK_NUMBERS = (-1, 5, GREATEST) + NOT_INTEGERS
 
+# Rules of no number of clocks.
+NOT_RULES = (
+    (None, nested(20), (), (1, 0), (1, 0, (1, 1), 0), [1, 0, (1, 1)], (1, 0, [1, 1]), {1: 0}, "10", 1, True)
+    + ((1, 1, (1, 1)), (0, 0, (0, 1)), (-1, 0, (1, 1)), (0, -1, (1, 1)), (5, 0, (1, 1)), (0, 5, (1, 1)))
+    + ((1, 0, (10 ** 9 + 1, 1)), (1, 0, (-10 ** 9 - 1, 0)), (0, 1, (10 ** 9 + 1, 0)), (0, 1, (-10 ** 9 - 1, 1)))
+    + tuple((part, 0, (1, 1)) for part in NOT_INTEGERS)
+    + tuple((1, part, (1, 1)) for part in NOT_INTEGERS)
+    + tuple((1, 0, part) for part in NOT_BOUNDS + (None,))
+)
+
+# Lots of no number of clocks: of another kind or form, with an entry that is no bound, or not tight.
+NOT_LOTS = (
+    (None, True, 0, 1, "", "ab", (), ((),), [], {}, nested(20), ((0, 1),), (((0, 1),), ()), [((0, 1),)], ([(0, 1)],))
+    + ((((0, 0),),), (((1, 1),),), ((None,),), (((-1, 1),),), (([0, 1],),), (((False, True),),), (((0, True),),))
+    + (((((0, 1),),),), (((0, 1), (0, 1)),), (((0, 1),), ((0, 1),)), (((0, 1), (0, 1)), (None,)))
+    + ((((0, 1), (0, 1)), (None, (0, 0))), (((0, 1), (0, 1)), (None, None)), (((0, 1), None), (None, (0, 1))))
+    + ((((0, 1), (1, 0)), (None, (0, 1))), (((0, 1), (1, 1)), ((2, 1), (0, 1))), (((0, 1), (0, 1)), ((-1, 1), (0, 1))))
+    + ((((0, 1), (0, 0)), ((0, 1), (0, 1))), (((0, 1), (-2, 1)), ((2, 0), (0, 1))), (((0, 1), (-2, 1)), ((1, 1), (0, 1))))
+    # Of two clocks: an entry that the others would make less.
+    + ((((0, 1),) * 3, ((3, 1), (0, 1), (4, 1)), (None, None, (0, 1))),)
+    + ((((0, 1),) * 3, (None, (0, 1), (1, 1)), ((3, 1), None, (0, 1))),)
+    + ((((0, 1), (0, 1), (0, 1)), (None, (0, 1), None), (None, (-1, 1), (0, 1))),)
+    + ((((0, 1), (0, 1), (0, 1)), (None, (0, 1), (1, 1)), (None, (-1, 0), (0, 1))),)
+    + (tuple(tuple((0, 1) for _ in range(6)) for _ in range(6)),)
+    + tuple((((0, 1), (0, 1)), (part, (0, 1))) for part in NOT_BOUNDS)
+    + tuple((((0, 1), part), (None, (0, 1))) for part in NOT_BOUNDS)
+    + tuple(((part,),) for part in NOT_BOUNDS)
+    + tuple((((0, 1), (0, 1)), part) for part in NOT_PAIRS)
+)
+
+# Areas of no number of clocks.
+NOT_AREAS = (
+    (None, True, 0, "", "ab", [], {}, nested(20), [(((0, 1),),)], ((),), ((0, 1),), (((0, 1),),), (((0, 1),), ()))
+    + ((((((0, 1),),),),), ((((0, 1),),), (((0, 1), (0, 1)), (None, (0, 1)))), ((((0, 1),),),) * 5001)
+    + tuple((lot,) for lot in NOT_LOTS)
+    + tuple(((((0, 1), (0, 1)), (None, (0, 1))), lot) for lot in NOT_LOTS)
+)
+
+NOT_MACHINES = NOT_INTEGERS + NOT_PAIRS + (5, (1, ((),), ()), (1, ((),), (), 0), [1, [[]], []])
+
 
 class Calls:
     """Assertions about errors, for a test case."""

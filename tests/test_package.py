@@ -31,7 +31,50 @@ FUNCTIONS = {
         "set_back": "point clocks",
         "shown": "point one other",
     },
+    "pauseplay.lots.lots": {
+        "is_rule": "clocks value",
+        "lot_or_ring": "clocks rules",
+        "is_ring": "clocks rules value",
+        "is_lot": "value",
+        "everything": "clocks",
+        "has_point": "lot point",
+        "point_of": "lot",
+        "is_lot_within": "lot other",
+        "rules_of": "lot",
+    },
+    "pauseplay.lots.moves": {
+        "meet": "one other",
+        "cut": "lot rule",
+        "later_lot": "lot",
+        "earlier_lot": "lot",
+        "freed_lot": "lot clocks",
+        "back_lot": "lot clocks",
+        "ahead_of_back": "lot clocks",
+        "pause_into": "lot point",
+        "back_from": "lot clocks point",
+    },
+    "pauseplay.lots.areas": {
+        "is_area": "clocks value",
+        "area_has": "area point",
+        "common": "one other",
+        "less": "one other",
+        "thinned": "area",
+        "within_or_point": "clocks one other",
+        "is_within_or_point": "clocks one other value",
+        "are_equal": "one other",
+    },
+    "pauseplay.machine.machines": {
+        "machine_fault": "clocks places deeds",
+        "Machine": "clocks places deeds",
+        "limits": "machine place",
+        "open_lot": "machine deed",
+        "deeds_at": "machine place owner",
+        "placed": "machine order",
+        "without_deed": "machine deed",
+    },
 }
+
+CLASSES = {("pauseplay.machine.machines", "Machine"): "__init__ __eq__ __str__ clocks places deeds most"}
 
 LIBRARY = ("gcd", "lcm", "isqrt", "comb", "perm", "factorial")
 
@@ -50,6 +93,13 @@ class InterfaceTest(unittest.TestCase):
                     function = getattr(module, name)
                     self.assertEqual(function.__module__, module_name)
                     self.assertEqual(list(inspect.signature(function).parameters), parameters.split())
+
+    def test_each_method_is_defined_in_its_class(self):
+        for (module_name, class_name), names in CLASSES.items():
+            told = vars(getattr(importlib.import_module(module_name), class_name))
+            for name in names.split():
+                with self.subTest(module=module_name, name=name):
+                    self.assertIn(name, told)
 
 
 class FilesTest(unittest.TestCase):

@@ -1,0 +1,1 @@
+"""Lots of points, told by bounds, and areas: some lots together."""

@@ -1,0 +1,1 @@
+"""Machines with clocks, places and deeds."""
