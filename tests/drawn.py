@@ -2,9 +2,10 @@
 
 from fractions import Fraction
 from itertools import combinations, product
+from math import lcm
 from random import Random
 
-from pauseplay.lots.lots import lot_or_ring, point_of
+from pauseplay.lots.lots import lot_or_ring, point_of, rules_of
 from pauseplay.machine.machines import Machine
 
 REST = tuple(Fraction(number) for number in ("0", "1/2", "1/3", "2/3", "1/4", "3/4", "1/7", "97/100"))
@@ -17,9 +18,7 @@ def shown_by(point):
 
 def point_showing(shown):
     """The point in lowest terms whose clocks show these numbers, nought left out."""
-    bottom = 1
-    while any((number * bottom).denominator > 1 for number in shown):
-        bottom += 1
+    bottom = lcm(*(number.denominator for number in shown))
     return (bottom, tuple(int(number * bottom) for number in shown))
 
 
@@ -173,6 +172,73 @@ def drawn_machine(random, clocks=None):
     places = tuple(drawn_limits(random, clocks) for _ in range(random.randint(1, 4)))
     deeds = tuple(drawn_deed(random, clocks, len(places)) for _ in range(random.randint(0, 6)))
     return Machine(clocks, places, deeds)
+
+
+def drawn_window(random, clock, most):
+    """Rules of a deed for one clock: a lower and an upper one near each other, or one of them."""
+    low = random.randint(0, most)
+    high = min(most, low + random.randint(0, 2))
+    marks = (1, 1) if low == high else (random.randint(0, 1), random.randint(0, 1))
+    below = [(0, clock, (-low, marks[0]))] if random.random() < 0.8 else []
+    above = [(clock, 0, (high, marks[1]))] if random.random() < 0.7 else []
+    return (below, above)
+
+
+def busy_deed(random, clocks, many_places, most, own, is_chain):
+    """A deed that is mostly open for a while; in a chain it leads to a place beside its start."""
+    windows = [drawn_window(random, clock, most) for clock in range(1, clocks + 1) if random.random() < 0.5]
+    rules = [rule for below, _ in windows for rule in below] + [rule for _, above in windows for rule in above]
+    back = tuple(clock for clock in range(1, clocks + 1) if random.random() < 0.4)
+    owner = "own" if random.random() < own else "foe"
+    start, goal = random.randrange(many_places), random.randrange(many_places)
+    if is_chain:
+        goal = min(max(start + random.choice((-1, 0, 1, 1)), 0), many_places - 1)
+    return (owner, start, goal, tuple(rules), back)
+
+
+def busy_limits(random, clocks, most):
+    """The limits of a place, none that keep a clock at nought."""
+    return tuple(
+        (clock, 0, (random.randint(1, most), random.randint(0, 1)))
+        for clock in range(1, clocks + 1) if random.random() < 0.5
+    )
+
+
+def busy_machine(random, clocks, most, is_chain=False, owns=(0.5, 0.6, 0.7, 0.8)):
+    """A machine with many deeds, so that many rounds and long runs come of it, more so of a chain."""
+    many_places = random.randint(4, 5) if is_chain else random.randint(2, 4)
+    own = random.choice(owns)
+    places = tuple(busy_limits(random, clocks, most) for _ in range(many_places))
+    many_deeds = random.randint(3 * many_places if is_chain else many_places, 4 * many_places)
+    deeds = tuple(busy_deed(random, clocks, many_places, most, own, is_chain) for _ in range(many_deeds))
+    return Machine(clocks, places, deeds)
+
+
+def drawn_standing(random, machine):
+    """A standing: any place, and a point that its limits let, often at the very end of one."""
+    place = random.randrange(len(machine.places))
+    point = drawn_point(random, machine.clocks, machine.most + 1)
+    shown = shown_by(point)[1:]
+    for clock, _, (most, end) in machine.places[place]:
+        if not is_let((most, end), shown[clock - 1]):
+            lower = Fraction(most) if end == 1 and random.random() < 0.5 else Fraction(most) * random.choice(REST)
+            shown[clock - 1] = lower if lower < most or end == 1 else Fraction(0)
+    return (place, point_showing(shown))
+
+
+def drawn_field(random, machine, many=3):
+    """A field of drawn lots, those parts of them that are within the limits."""
+    areas = [drawn_area(random, machine.clocks, many) for _ in machine.places]
+    return tuple(
+        tuple(lot for lot in (within(lot, place) for lot in area) if lot is not None)
+        for area, place in zip(areas, machine.places)
+    )
+
+
+def within(lot, rules):
+    """The lot of the points of the lot that keep the rules, too, None if there are none."""
+    kind, found = lot_or_ring(len(lot) - 1, rules_of(lot) + rules)
+    return found if kind == "lot" else None
 
 
 def all_points(clocks, most, bottom):

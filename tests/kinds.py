@@ -1,6 +1,7 @@
 """Values for the tests: what has another kind than is asked for, and what is nearly right."""
 
-from pauseplay.errors import InvalidNumber, PlayError
+from pauseplay.errors import InvalidNumber, PlayError, Refused, TooMany
+from pauseplay.machine.machines import Machine
 
 GREATEST = 10 ** 60 - 1
 TOO_GREAT = 10 ** 60
@@ -96,6 +97,88 @@ NOT_AREAS = (
 NOT_MACHINES = NOT_INTEGERS + NOT_PAIRS + (5, (1, ((),), ()), (1, ((),), (), 0), [1, [[]], []])
 
 
+LAMP = Machine(
+    2, (((1, 0, (3, 1)), (2, 0, (5, 0))), (), ((2, 0, (2, 0)),)),
+    (
+        ("own", 0, 1, ((0, 1, (-1, 1)), (2, 0, (4, 0))), (2,)), ("foe", 0, 2, ((0, 2, (-1, 0)),), (2,)),
+        ("own", 1, 2, ((0, 1, (-4, 0)),), ()), ("foe", 2, 0, (), (1,)),
+    ),
+)
+
+NOT_INDICES_OF_PLACES = (-1, 3, 12, GREATEST) + NOT_INTEGERS
+
+NOT_INDICES_OF_DEEDS = (-1, 4, 40, GREATEST) + NOT_INTEGERS
+
+# Standings of no place of LAMP: of another kind or form, of other clocks, or beyond the limits.
+NOT_STANDINGS = (
+    (None, nested(20), (0,), (0, (1, (0, 0)), 0), [0, (1, (0, 0))], (0, [1, (0, 0)]), {0: (1, (0, 0))}, (1, (0, 0)), LAMP)
+    + tuple((place, (1, (0, 0))) for place in NOT_INDICES_OF_PLACES)
+    + tuple((1, point) for point in NOT_POINTS + ((1, ()), (1, (0,)), (1, (0, 0, 0)), (1, (0, 0, 0, 0)), LAMP))
+    + ((0, (1, (4, 0))), (0, (2, (7, 0))), (0, (1, (0, 5))), (0, (3, (0, 15))), (2, (1, (9, 2))), (2, (GREATEST, (0, GREATEST * 2))))
+    + ((0, (GREATEST, (GREATEST, TOO_GREAT))), (1, (TOO_GREAT, (1, 1))), (1, (1, (TOO_GREAT, 1))))
+    + NOT_PAIRS
+)
+
+NOT_PLACES = (
+    (None, nested(20), "", "ab", 0, 1, True, [], [0], {}, {0: 1}, (1, 0), (0, 0), (0, 1, 1), (3,), (-1,), (0, 3), (0, 1, 2, 3))
+    + ((0, (1,)), ((0,),), LAMP)
+    + tuple((value,) for value in NOT_INTEGERS)
+    + tuple((0, value) for value in NOT_INTEGERS)
+)
+
+# Areas of two clocks, and areas that are none.
+NOT_AREAS_OF_TWO = NOT_AREAS + (
+    ((((0, 1),),),), ((((0, 1), (0, 1)), (None, (0, 1))),), ((((0, 1),) * 4,) * 4,), (((((0, 1),) * 3,) * 3), ((0, 1),)),
+)
+
+ALL_OF_TWO = (((0, 1), (0, 1), (0, 1)), (None, (0, 1), None), (None, None, (0, 1)))
+
+NOUGHT_OF_TWO = (((0, 1),) * 3,) * 3
+
+# Fields of another machine than LAMP, and fields that are none.
+NOT_FIELDS = (
+    (None, nested(20), "", "abc", 0, True, (), ((),), ((), ()), ((), (), (), ()), [(), (), ()], {0: (), 1: (), 2: ()}, LAMP)
+    + ((((ALL_OF_TWO,), (), ())), ((), (), (ALL_OF_TWO,)), ((NOUGHT_OF_TWO, ALL_OF_TWO), (), ()), ((), (NOUGHT_OF_TWO,) * 5001, ()))
+    + ((([NOUGHT_OF_TWO], (), ())), ((), NOUGHT_OF_TWO, ()), (NOUGHT_OF_TWO, NOUGHT_OF_TWO, NOUGHT_OF_TWO))
+    + tuple(((), area, ()) for area in NOT_AREAS_OF_TWO)
+)
+
+NOT_MOST = (-1, 21, GREATEST) + NOT_INTEGERS
+
+# Classes of no points with two clocks, for 2 as the most.
+NOT_CLASSES = (
+    (None, nested(20), 0, True, "", "abc", (), ((0, 0), (1, 2)), ((0, 0), (1, 2), (), ()), [(0, 0), (1, 2), ()], {}, LAMP)
+    + (([0, 0], (1, 2), ()), ((0, 0), [1, 2], ()), ((0, 0), (1, 2), []), ((0, 0), (1,), ([2],)), ((0, 0), (1,), [(2,)]))
+    + (((0,), (1,), ()), ((0, 0, 0), (1, 2, 3), ()), ((), (), ()), ((0, 4), (1,), ()), ((0, -1), (1, 2), ()), ("00", (1, 2), ()))
+    + (((0, 0), (1,), ()), ((0, 0), (), ()), ((0, 0), (2, 1), ()), ((0, 0), (1, 1, 2), ()), ((0, 0), (1, 2, 3), ()), ((0, 0), (0, 1, 2), ()))
+    + (((0, 3), (1, 2), ()), ((0, 3), (1,), ((2,),)), ((0, 2), (1,), ((2,),)), ((2, 0), (), ((1,), (2,))), ((2, 0), (), ((1, 2),)))
+    + (((0, 0), (1, 2), ((),)), ((0, 0), (1,), ((2,), ())), ((0, 0), (1,), ((), (2,))), ((0, 0), (1, 2), ((2,),)), ((0, 0), (2,), ((2,),)))
+    + (((0, 0), (), ((2, 1),)), ((0, 0), (), ((1, 1, 2),)), ((0, 0), (), ((1,), (1, 2))), ((0, 0), (), ((1, 2), (2,))), ((0, 0), (), (1, 2)))
+    + (((0, 0), (), ((1,), (3,))), ((0, 0), (), ((0,), (1, 2))), ((3, 3), (), ((1,),)), ((3, 3), (1,), ()), ((0, 0), 1, ((2,),)), (0, (1, 2), ()))
+    + tuple(((0, part), (1, 2), ()) for part in NOT_INTEGERS)
+    + tuple(((0, 0), (1, part), ()) for part in NOT_INTEGERS)
+    + tuple(((0, 0), (1,), ((part,),)) for part in NOT_INTEGERS)
+    + tuple(((0, 0), (1,), part) for part in NOT_INTEGERS if part != ())
+    + (((False, 1), (1, 2), ()), ((0, 0), (True, 2), ()), ((0, 0), (), ((True,), (2,))))
+)
+
+# Ascending tuples of clocks are asked for, of a point with two clocks.
+NOT_BACK = (
+    (None, nested(20), "", "12", 0, 1, True, [], [1], {}, {1: 1}, (0,), (3,), (-1,), (1, 1), (2, 1), (1, 2, 3), ((1,),), LAMP)
+    + tuple((part,) for part in NOT_INTEGERS)
+    + tuple((1, part) for part in NOT_INTEGERS)
+)
+
+# Moves of LAMP, and moves that are none.
+NOT_MOVES = (
+    (None, nested(20), "", "ab", 0, True, [], [((0, 1), 0)], {}, ((0, 1), 0), (((0, 1), 0, 0),), ([(0, 1), 0],), LAMP)
+    + ((((0, 1), 0),) * 401, (((0, 1), 0), None))
+    + tuple(((pause, 0),) for pause in NOT_PAUSES)
+    + tuple((((0, 1), deed),) for deed in NOT_INDICES_OF_DEEDS)
+    + tuple((part,) for part in NOT_PAIRS)
+)
+
+
 class Calls:
     """Assertions about errors, for a test case."""
 
@@ -118,3 +201,19 @@ class Calls:
                 self.assertIs(error.given.__class__, given.__class__)
             else:
                 self.fail("InvalidNumber was not raised")
+
+    def assert_kept(self, error, name, kept, call, *arguments):
+        """The call raises just this error, which keeps just this value under the name."""
+        with self.subTest(call=call.__name__):
+            with self.assertRaises(error) as caught:
+                call(*arguments)
+            self.assertIs(caught.exception.__class__, error)
+            self.assertEqual(repr(getattr(caught.exception, name)), repr(kept))
+
+    def assert_reason(self, reason, call, *arguments):
+        """The call raises Refused with the reason."""
+        self.assert_kept(Refused, "reason", reason, call, *arguments)
+
+    def assert_too_many(self, limit, call, *arguments):
+        """The call raises TooMany with the limit."""
+        self.assert_kept(TooMany, "limit", limit, call, *arguments)

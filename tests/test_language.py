@@ -21,11 +21,14 @@ METHODS = """
     split splitlines startswith strip update upper values zfill bit_length add discard
 """.split()
 
-# L17
+# L17: no names, and not in strings either
 BARRED_WORDS = """
     type typing typing_extensions enum Enum IntEnum StrEnum Flag IntFlag Generic Protocol ABC ABCMeta namedtuple
-    NamedTuple TypedDict TYPE_CHECKING abstractmethod register mro elements open input law version_info
+    NamedTuple TypedDict TYPE_CHECKING abstractmethod
 """.split()
+
+# L17: no names
+BARRED_NAMES = "register mro elements open input law version_info with_traceback add_note exit id help vars dir".split()
 
 KEEPING_ERRORS = ("InvalidNumber", "UnknownName", "ParseError", "NothingToUndo", "TooMany", "Refused")
 
@@ -48,11 +51,13 @@ class LanguageTest(unittest.TestCase):
         cls.nodes = [(path, node) for path, tree in cls.trees for node in ast.walk(tree)]
 
     def test_builtins_and_methods(self):
+        own = [each.name for _, node in self.nodes if isinstance(node, ast.ClassDef) for each in node.body[1:]]
         for path, node in self.nodes:
             if isinstance(node, ast.Name) and hasattr(builtins, node.id):
                 self.assertIn(node.id, BUILTINS, (path, node.lineno))
             if isinstance(node, ast.Call) and isinstance(node.func, ast.Attribute):
-                self.assertIn(node.func.attr, METHODS, (path, node.lineno))
+                self.assertIn(node.func.attr, METHODS + own, (path, node.lineno))
+        self.assertEqual(set(own) & set(METHODS), set())
 
     def test_nothing_has_the_name_of_a_builtin_an_import_a_class_or_a_function(self):
         for path, tree in self.trees:
@@ -65,6 +70,26 @@ class LanguageTest(unittest.TestCase):
                     name = node.id
                 self.assertNotIn(name, bound, path)
                 self.assertFalse(hasattr(builtins, name), (path, name))
+
+    def test_properties_are_assigned_by_nobody(self):
+        told = [node for _, node in self.nodes if isinstance(node, ast.FunctionDef) and node.decorator_list]
+        for path, node in self.nodes:
+            if isinstance(node, ast.Attribute) and isinstance(node.ctx, ast.Store):
+                self.assertNotIn(node.attr, [each.name for each in told], path)
+
+    def test_attributes_that_are_read_are_assigned_by_some_class(self):
+        assigned = {node.attr for _, node in self.nodes if isinstance(node, ast.Attribute) and isinstance(node.ctx, ast.Store)}
+        for _, node in self.nodes:
+            if isinstance(node, ast.ClassDef):
+                methods = {each.name for each in node.body if isinstance(each, ast.FunctionDef)}
+                its = {
+                    each.attr for each in ast.walk(node) if isinstance(each, ast.Attribute) and isinstance(each.ctx, ast.Store)
+                }
+                self.assertEqual(methods & its, set())
+                assigned |= methods
+        for path, node in self.nodes:
+            if isinstance(node, ast.Attribute) and node.attr not in METHODS:
+                self.assertIn(node.attr, assigned, (path, node.lineno))
 
     def test_parts_that_are_barred(self):
         barred = (ast.Global, ast.AsyncFunctionDef, ast.Set, ast.Div, ast.GeneratorExp, ast.Yield, ast.Import)
@@ -103,9 +128,10 @@ class LanguageTest(unittest.TestCase):
                 if isinstance(node, ast.Constant) and isinstance(node.value, str):
                     self.assertNotIn("%", node.value, path)
                     if not any(node is each for each in told):
-                        words.extend(node.value.split())
+                        for word in node.value.split():
+                            self.assertNotIn(word, BARRED_WORDS, path)
                 for word in words:
-                    self.assertNotIn(word, BARRED_WORDS, path)
+                    self.assertNotIn(word, BARRED_WORDS + BARRED_NAMES, path)
 
     def test_errors_without_an_init_get_a_string(self):
         for path, node in self.nodes:

@@ -3,7 +3,7 @@
 Nothing is checked here: the integers have any length.
 """
 
-from pauseplay.base.exact import order_of
+from pauseplay.base.exact import lowest_terms, order_of
 
 
 def is_stretch_empty(least, least_end, greatest, greatest_end):
@@ -55,3 +55,48 @@ def simplest_in(least, least_end, greatest, greatest_end):
     for below in reversed(wholes):
         top, bottom = below * top + bottom, top
     return (top, bottom)
+
+
+def lowest_stretch(stretch):
+    """The stretch (least, end, greatest, end) with its ends in lowest terms."""
+    least, least_end, greatest, greatest_end = stretch
+    told = None if greatest is None else lowest_terms(greatest[0], greatest[1])
+    return (lowest_terms(least[0], least[1]), least_end, told, greatest_end)
+
+
+def later_end(one, other):
+    """Of two pairs of a least number and of 1 or 0 the one that leaves less."""
+    order = order_of(one[0], other[0])
+    if order == 0:
+        return one if one[1] == 0 else other
+    return one if order > 0 else other
+
+
+def earlier_end(one, other):
+    """Of two pairs of a greatest number, None for no end, and of 1 or 0 the one that leaves less."""
+    if one[0] is None or other[0] is None:
+        return other if one[0] is None else one
+    order = order_of(one[0], other[0])
+    if order == 0:
+        return one if one[1] == 0 else other
+    return one if order < 0 else other
+
+
+def shared_stretch(one, other):
+    """The stretch of the pauses that two stretches share, None if there are none."""
+    least, least_end = later_end(one[:2], other[:2])
+    greatest, greatest_end = earlier_end(one[2:], other[2:])
+    if is_stretch_empty(least, least_end, greatest, greatest_end):
+        return None
+    return (least, least_end, greatest, greatest_end)
+
+
+def is_in_stretch(stretch, pause):
+    """Whether the pause is in the stretch."""
+    return shared_stretch(stretch, (pause, 1, pause, 1)) is not None
+
+
+def simplest_of(stretches):
+    """The simplest one of all pauses of some stretches, None if there are no stretches."""
+    found = [simplest_in(*stretch) for stretch in stretches]
+    return min(found, key=lambda pause: (pause[1], pause[0]), default=None)

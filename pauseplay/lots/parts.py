@@ -126,3 +126,34 @@ def grids_less(grids, others):
     """Grids with just the points of the grids that the others lack."""
     cutters = cutters_of(thinned_grids(others))
     return thinned_grids([part for grid in thinned_grids(grids) for part in parts_left(grid, cutters)])
+
+
+def is_covered(grid, cutters):
+    """Whether all points of the grid are points of the cutters."""
+    waiting = [(grid, cutters)]
+    while waiting:
+        part, near = waiting.pop()
+        near = near_ones(part, near)
+        if index_around(part, near) is None:
+            cutter = best_cutter(part, near)
+            if cutter is None:
+                return False
+            waiting.extend([(outside, near) for _, outside in parts_cut_off(part, cutter[1])])
+    return True
+
+
+def uncovered_ones(grids, others):
+    """Those of the grids that have a point that all others lack."""
+    cutters = cutters_of(others)
+    known = {grid: True for grid in others}
+    return [grid for grid in grids if grid not in known and not is_covered(grid, cutters)]
+
+
+def are_covered(grids, others):
+    """Whether all points of the grids are points of the others."""
+    cutters = cutters_of(others)
+    known = {grid: True for grid in others}
+    for grid in grids:
+        if grid not in known and not is_covered(grid, cutters):
+            return False
+    return True

@@ -149,6 +149,12 @@ def check_deed(machine, deed):
         raise InvalidNumber(deed)
 
 
+def check_places(machine, value):
+    """Raise InvalidPlaces unless the value is an ascending tuple of indices of places, perhaps ()."""
+    if not is_ascending(value, 0, len(machine.places) - 1):
+        raise InvalidPlaces("an ascending tuple of indices of places is asked for")
+
+
 def limits_grid(machine, place):
     """The grid of the points within the limits of the place, without a check."""
     return kept_grid(machine.clocks, machine.places[place])
