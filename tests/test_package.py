@@ -72,6 +72,81 @@ FUNCTIONS = {
         "placed": "machine order",
         "without_deed": "machine deed",
     },
+    "pauseplay.machine.runs": {
+        "is_standing": "machine value",
+        "waited": "machine standing pause",
+        "done": "machine standing deed",
+        "run": "machine standing moves",
+        "time_of": "moves",
+        "longest": "machine standing",
+        "pauses_for": "machine standing deed",
+    },
+    "pauseplay.machine.classes": {
+        "class_of": "point most",
+        "are_alike": "one other most",
+        "is_class": "clocks most value",
+        "point_in": "clocks most told",
+        "lot_of_class": "clocks most told",
+        "next_class": "clocks most told",
+        "classes_waited": "clocks most told",
+        "back_class": "clocks most told back",
+        "how_many": "clocks most",
+        "all_classes": "clocks most",
+    },
+    "pauseplay.machine.fields": {
+        "is_field": "machine value",
+        "field_has": "machine field standing",
+        "behind_wait": "machine place area",
+        "ahead_of_wait": "machine place area",
+        "behind_deed": "machine deed area",
+        "ahead_of_deed": "machine deed area",
+        "rest": "machine field",
+        "joined": "machine one other",
+        "are_equal_fields": "machine one other",
+        "is_within_field": "machine one other",
+        "places_field": "machine places",
+    },
+    "pauseplay.machine.reach": {
+        "coming": "machine goals",
+        "coming_within": "machine goals many",
+        "fewest_moves": "machine standing goals",
+        "run_or_closed": "machine standing goals",
+        "is_run_or_closed": "machine standing goals value",
+        "is_closed": "machine value",
+    },
+    "pauseplay.game.ways": {
+        "way": "machine place goods bads",
+        "safe_pauses": "machine standing bads",
+        "pause_for": "machine standing goods bads",
+        "is_pause_for": "machine standing goods bads value",
+    },
+    "pauseplay.game.plays": {
+        "offers_at": "machine standing",
+        "opens": "machine standing pause",
+        "is_offer": "machine standing value",
+        "is_answer": "machine standing offer value",
+        "answers_to": "machine standing offer",
+        "behind": "machine standing offer answer",
+        "played": "machine standing goals turns",
+    },
+    "pauseplay.game.won": {
+        "led_into": "machine field",
+        "led_out": "machine field",
+        "rounds": "machine goals",
+        "won_field": "machine goals",
+        "rank": "machine goals standing",
+        "won_or_held": "machine goals standing",
+    },
+}
+
+CONSTANTS = {
+    "pauseplay.base.points": {"MOST_CLOCKS": 4},
+    "pauseplay.lots.lots": {"MOST_RULES": 100},
+    "pauseplay.lots.areas": {"MOST_LOTS": 5000, "MOST_KNOTS": 4000},
+    "pauseplay.machine.machines": {"MOST_PLACES": 12, "MOST_DEEDS": 40, "MOST_NUMBER": 20},
+    "pauseplay.machine.runs": {"MOST_MOVES": 400},
+    "pauseplay.machine.classes": {"MOST_CLASSES": 5000, "MOST_WHOLE": 20},
+    "pauseplay.machine.reach": {"MOST_MOVES": 400},
 }
 
 CLASSES = {("pauseplay.machine.machines", "Machine"): "__init__ __eq__ __str__ clocks places deeds most"}
@@ -93,6 +168,15 @@ class InterfaceTest(unittest.TestCase):
                     function = getattr(module, name)
                     self.assertEqual(function.__module__, module_name)
                     self.assertEqual(list(inspect.signature(function).parameters), parameters.split())
+
+    def test_constants_stand_in_their_modules(self):
+        for module_name, constants in CONSTANTS.items():
+            tree = ast.parse(inspect.getsource(importlib.import_module(module_name)))
+            told = {node.targets[0].id: node.value.value for node in tree.body if isinstance(node, ast.Assign)
+                    and isinstance(node.value, ast.Constant)}
+            for name, value in constants.items():
+                with self.subTest(module=module_name, name=name):
+                    self.assertEqual(told[name], value)
 
     def test_each_method_is_defined_in_its_class(self):
         for (module_name, class_name), names in CLASSES.items():
