@@ -1,9 +1,10 @@
 """A plain look at machines: at each rule, each pause and each offer, at one point of each class."""
 
 from fractions import Fraction
+from functools import cache
 from itertools import product
 
-from tests.drawn import crossings, is_let, point_showing, shown_by
+from tests.drawn import busy_machine, crossings, drawn_standing, is_let, point_showing, seeded, shown_by
 
 
 def keeps_rules(shown, rules):
@@ -133,3 +134,35 @@ class Plain:
 def plain_key(machine, standing):
     """The key of a standing of the package."""
     return (standing[0], plain_class(tuple(shown_by(standing[1])), machine.most))
+
+
+@cache
+def drawn_plains(many):
+    """Drawn machines of few classes, half of them chains, each with goals and a plain look at it."""
+    random = seeded("plains")
+    found = []
+    for turn in range(many):
+        clocks, most = (4, 1) if turn < 6 else ((0, 3), (1, 4), (2, 2), (1, 3), (2, 3), (3, 1))[turn % 6]
+        is_chain = turn % 12 < 6
+        machine = busy_machine(random, clocks, most, is_chain, (0.6, 0.7, 0.8, 0.9))
+        goals = tuple(sorted(random.sample(range(len(machine.places)), random.choice((0, 1, 1, 1, 2)))))
+        found.append((machine, (len(machine.places) - 1,) if is_chain else goals, Plain(machine)))
+    return found
+
+
+@cache
+def games_won():
+    """Drawn machines, goals, plain looks, ranks against the foe, and the numbers of the last rounds."""
+    return [(machine, goals, plain, *plain.rounds_won(goals)) for machine, goals, plain in drawn_plains(180)]
+
+
+@cache
+def games_coming():
+    """Drawn machines, goals, plain looks, ranks without a foe, and the numbers of the last rounds."""
+    return [(machine, goals, plain, *plain.rounds_coming(goals)) for machine, goals, plain in drawn_plains(180)[:72]]
+
+
+def looked_standings(random, machine, plain, many=8):
+    """Standings to look at: some of those that the plain look knows, and drawn ones."""
+    keys = random.sample(sorted(plain.standings), min(many, len(plain.standings)))
+    return [plain.standing(key) for key in keys] + [drawn_standing(random, machine) for _ in range(many)]

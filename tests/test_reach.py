@@ -2,7 +2,6 @@
 
 import unittest
 from fractions import Fraction
-from functools import cache
 from itertools import combinations, count
 
 from pauseplay.lots.areas import less
@@ -14,10 +13,10 @@ from pauseplay.machine.fields import places_field, rest
 from pauseplay.machine.machines import Machine, limits, placed, without_deed
 from pauseplay.machine.reach import coming, coming_within, fewest_moves, is_closed, is_run_or_closed, run_or_closed
 from pauseplay.machine.runs import run, time_of
-from tests.drawn import busy_machine, drawn_area, drawn_field, drawn_standing, looked_at, point_showing, seeded
+from tests.drawn import busy_machine, drawn_area, drawn_field, looked_at, point_showing, seeded
 from tests.drawn import shown_by, within
 from tests.kinds import LAMP, Calls
-from tests.plain import Plain, grown, is_open_at, keeps_rules, led_to, moments, plain_key
+from tests.plain import games_coming, grown, is_open_at, keeps_rules, led_to, looked_standings, moments, plain_key
 
 TURN = Machine(
     1, (((1, 0, (2, 1)),), (), ()),
@@ -33,27 +32,6 @@ def wheels(*periods):
     return Machine(len(periods), (limit, ()), deeds + (("foe", 0, 1, ends, ()),))
 
 
-@cache
-def drawn_games(name, many):
-    """Drawn machines of few classes with goals, a plain look at them, and the ranks without a foe."""
-    random = seeded(name)
-    found = []
-    for turn in range(many):
-        clocks, most = (4, 1) if turn < 6 else ((0, 3), (1, 4), (2, 2), (1, 3), (2, 3), (3, 1))[turn % 6]
-        machine = busy_machine(random, clocks, most, turn % 12 < 6)
-        goals = tuple(sorted(random.sample(range(len(machine.places)), random.choice((0, 1, 1, 1, 2)))))
-        goals = (len(machine.places) - 1,) if turn % 12 < 6 else goals
-        plain = Plain(machine)
-        found.append((machine, goals, plain, *plain.rounds_coming(goals)))
-    return found
-
-
-def looked_standings(random, machine, plain, many=8):
-    """Standings to look at: some of those that the plain look knows, and drawn ones."""
-    keys = random.sample(sorted(plain.standings), min(many, len(plain.standings)))
-    return [plain.standing(key) for key in keys] + [drawn_standing(random, machine) for _ in range(many)]
-
-
 class RoundsTest(unittest.TestCase):
     def test_constant(self):
         self.assertEqual(reach.MOST_MOVES, 400)
@@ -61,7 +39,7 @@ class RoundsTest(unittest.TestCase):
     def test_fewest_moves(self):
         random = seeded("fewest")
         told = {}
-        for machine, goals, plain, ranks, _ in drawn_games("reach", 60):
+        for machine, goals, plain, ranks, _ in games_coming():
             for at in looked_standings(random, machine, plain):
                 expected = ranks.get(plain_key(machine, at))
                 told[expected] = told.get(expected, 0) + 1
@@ -70,7 +48,7 @@ class RoundsTest(unittest.TestCase):
             self.assertGreater(told[number], 20, number)
 
     def test_just_the_standings_of_each_round(self):
-        for machine, goals, plain, ranks, last in drawn_games("reach", 60):
+        for machine, goals, plain, ranks, last in games_coming():
             for many in sorted({0, 1, 2, last, last + 1, 400}):
                 field = coming_within(machine, goals, many)
                 self.assertIs(is_field(machine, field), True)
@@ -80,7 +58,7 @@ class RoundsTest(unittest.TestCase):
 
     def test_just_the_standings_that_come_to_the_goals(self):
         random = seeded("coming")
-        for machine, goals, plain, ranks, last in drawn_games("reach", 60):
+        for machine, goals, plain, ranks, last in games_coming():
             field = coming(machine, goals)
             self.assertIs(are_equal_fields(machine, field, coming_within(machine, goals, last)), True)
             self.assertIs(is_closed(machine, rest(machine, field)), True)
@@ -90,14 +68,14 @@ class RoundsTest(unittest.TestCase):
                 self.assertIs(field_has(machine, field, at), plain_key(machine, at) in ranks)
 
     def test_none_of_the_lots_is_within_another_one(self):
-        for machine, goals, _, _, last in drawn_games("reach", 60):
+        for machine, goals, _, _, last in games_coming():
             for field in (coming(machine, goals), coming_within(machine, goals, max(1, last - 1))):
                 for area in field:
                     for one, other in combinations(area, 2):
                         self.assertTrue(less((one,), (other,)) and less((other,), (one,)))
 
     def test_no_goals_and_all(self):
-        for machine, _, plain, _, _ in drawn_games("reach", 60)[:24]:
+        for machine, _, plain, _, _ in games_coming()[:24]:
             every = tuple(range(len(machine.places)))
             nothing = ((),) * len(every)
             self.assertEqual(coming(machine, ()), nothing)
@@ -111,7 +89,7 @@ class RoundsTest(unittest.TestCase):
 
     def test_places_in_other_sequences_and_fewer_deeds(self):
         random = seeded("other reach")
-        for machine, goals, plain, ranks, _ in drawn_games("reach", 60)[:30]:
+        for machine, goals, plain, ranks, _ in games_coming()[:30]:
             order = random.sample(range(len(machine.places)), len(machine.places))
             told = {index: place for place, index in enumerate(order)}
             other, its_goals = placed(machine, tuple(order)), tuple(sorted(told[goal] for goal in goals))
@@ -165,7 +143,7 @@ class RunTest(Calls, unittest.TestCase):
     def test_the_least_deed_and_the_simplest_pause(self):
         random = seeded("moves")
         told = {}
-        for machine, goals, self.plain, ranks, _ in drawn_games("reach", 60):
+        for machine, goals, self.plain, ranks, _ in games_coming():
             for at in looked_standings(random, machine, self.plain, 5):
                 many = ranks.get(plain_key(machine, at))
                 if many is None:
@@ -237,7 +215,7 @@ class ClosedTest(Calls, unittest.TestCase):
     def test_either_or(self):
         random = seeded("either or")
         kinds = {"run": 0, "closed": 0}
-        for machine, goals, plain, ranks, _ in drawn_games("reach", 60):
+        for machine, goals, plain, ranks, _ in games_coming():
             for at in looked_standings(random, machine, plain, 4):
                 value = run_or_closed(machine, at, goals)
                 kinds[value[0]] += 1
@@ -268,7 +246,7 @@ class ClosedTest(Calls, unittest.TestCase):
 
     def test_closed_fields_point_by_point(self):
         random = seeded("points of closed")
-        for machine, goals, _, _, _ in drawn_games("reach", 60)[:40]:
+        for machine, goals, _, _, _ in games_coming()[:40]:
             field = rest(machine, coming(machine, goals))
             for place, area in enumerate(field):
                 for point in looked_at(random, machine.clocks, random.sample(area, min(2, len(area))), 2):
@@ -328,7 +306,7 @@ class ClosedTest(Calls, unittest.TestCase):
 
     def test_two_closed_fields_together_are_one(self):
         random = seeded("two closed")
-        for machine, goals, _, _, _ in drawn_games("reach", 60)[:20]:
+        for machine, goals, _, _, _ in games_coming()[:20]:
             other = (random.randrange(len(machine.places)),)
             one, two = rest(machine, coming(machine, goals)), rest(machine, coming(machine, other))
             self.assertIs(is_closed(machine, joined(machine, one, two)), True)
@@ -361,7 +339,7 @@ class ClosedTest(Calls, unittest.TestCase):
 
     def test_areas_of_other_lots_with_the_same_points(self):
         random = seeded("other lots")
-        for machine, goals, _, _, _ in drawn_games("reach", 60)[:30]:
+        for machine, goals, _, _, _ in games_coming()[:30]:
             field = rest(machine, coming(machine, goals))
             cut = tuple(
                 less(area, told) + tuple(lot for lot in less(area, less(area, told)))

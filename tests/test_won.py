@@ -1,7 +1,6 @@
 """[12.1] to [12.7]: led into and out, rounds, ranks, what is won and what is held, more and less."""
 
 import unittest
-from functools import cache
 from itertools import permutations
 
 from pauseplay.game.plays import answers_to, behind, is_offer, offers_at, played
@@ -13,10 +12,10 @@ from pauseplay.machine.classes import how_many
 from pauseplay.machine.fields import ahead_of_deed, are_equal_fields, field_has, is_field, is_within_field, places_field, rest
 from pauseplay.machine.machines import Machine, limits, placed, without_deed
 from pauseplay.machine.reach import coming, fewest_moves
-from tests.drawn import busy_deed, busy_machine, drawn_field, drawn_standing, is_in_some, keeps_all, looked_at, point_showing
+from tests.drawn import busy_deed, busy_machine, drawn_field, is_in_some, keeps_all, looked_at, point_showing
 from tests.drawn import seeded, shown_by
 from tests.kinds import Calls
-from tests.plain import Plain, grown, is_open_at, led_to, let_moments, plain_key
+from tests.plain import games_won, grown, is_open_at, led_to, let_moments, looked_standings, plain_key
 from tests.test_reach import wheels
 
 RACE = Machine(
@@ -28,27 +27,6 @@ RACE = Machine(
 def at(value, bottom=1, place=0):
     """A standing of one clock."""
     return (place, (bottom, (value,)))
-
-
-@cache
-def drawn_games(name, many):
-    """Drawn machines of few classes with goals, a plain look at them, the ranks, and the number of the last round."""
-    random = seeded(name)
-    found = []
-    for turn in range(many):
-        clocks, most = (4, 1) if turn < 6 else ((0, 3), (1, 4), (2, 2), (1, 3), (2, 3), (3, 1))[turn % 6]
-        machine = busy_machine(random, clocks, most, turn % 12 < 6, (0.6, 0.7, 0.8, 0.9))
-        goals = tuple(sorted(random.sample(range(len(machine.places)), random.choice((0, 1, 1, 1, 2)))))
-        goals = (len(machine.places) - 1,) if turn % 12 < 6 else goals
-        plain = Plain(machine)
-        found.append((machine, goals, plain, *plain.rounds_won(goals)))
-    return found
-
-
-def looked_standings(random, machine, plain, many=8):
-    """Standings to look at: some of those that the plain look knows, and drawn ones."""
-    keys = random.sample(sorted(plain.standings), min(many, len(plain.standings)))
-    return [plain.standing(key) for key in keys] + [drawn_standing(random, machine) for _ in range(many)]
 
 
 def round_of(fields, place, point):
@@ -130,7 +108,7 @@ class LedTest(unittest.TestCase):
 class RoundsTest(unittest.TestCase):
     def test_just_the_standings_of_each_round(self):
         lasts = {}
-        for machine, goals, plain, ranks, last in drawn_games("won", 180):
+        for machine, goals, plain, ranks, last in games_won():
             fields = rounds(machine, goals)
             lasts[last] = lasts.get(last, 0) + 1
             self.assertEqual(len(fields), last + 1, (machine.places, machine.deeds, goals))
@@ -143,7 +121,7 @@ class RoundsTest(unittest.TestCase):
             self.assertGreater(lasts[last], 5, last)
 
     def test_each_round_has_the_one_ahead_of_it_and_more(self):
-        for machine, goals, _, _, _ in drawn_games("won", 180)[:60]:
+        for machine, goals, _, _, _ in games_won()[:60]:
             fields = rounds(machine, goals)
             self.assertIs(are_equal_fields(machine, fields[0], places_field(machine, goals)), True)
             self.assertIs(are_equal_fields(machine, fields[-1], won_field(machine, goals)), True)
@@ -153,7 +131,7 @@ class RoundsTest(unittest.TestCase):
 
     def test_each_round_is_the_way_of_the_one_ahead_of_it(self):
         # [12.2]
-        for machine, goals, _, _, _ in drawn_games("won", 180)[:60]:
+        for machine, goals, _, _, _ in games_won()[:60]:
             fields = rounds(machine, goals)
             for one, other in zip(fields, fields[1:] + fields[-1:]):
                 goods, bads = led_into(machine, one), led_out(machine, one)
@@ -164,7 +142,7 @@ class RoundsTest(unittest.TestCase):
                 self.assertIs(are_equal_fields(machine, told, other), True)
 
     def test_none_of_the_lots_is_within_another_one(self):
-        for machine, goals, _, _, _ in drawn_games("won", 180)[:60]:
+        for machine, goals, _, _, _ in games_won()[:60]:
             for field in rounds(machine, goals) + (won_field(machine, goals),):
                 for area in field:
                     for one, other in permutations(area, 2):
@@ -172,24 +150,24 @@ class RoundsTest(unittest.TestCase):
 
     def test_at_most_as_many_rounds_as_classes_at_all_places(self):
         # [12.3]
-        for machine, goals, _, _, _ in drawn_games("won", 180)[:60]:
+        for machine, goals, _, _, _ in games_won()[:60]:
             self.assertLessEqual(len(rounds(machine, goals)), len(machine.places) * how_many(machine.clocks, machine.most))
 
     def test_no_goals_and_all(self):
-        for machine, _, _, _, _ in drawn_games("won", 180)[:24]:
+        for machine, _, _, _, _ in games_won()[:24]:
             every = tuple(range(len(machine.places)))
             self.assertEqual(rounds(machine, ()), (((),) * len(every),))
             self.assertEqual(won_field(machine, ()), ((),) * len(every))
             self.assertEqual(rounds(machine, every), (places_field(machine, every),))
 
     def test_no_own_deeds(self):
-        for machine, goals, _, _, _ in drawn_games("won", 180)[:40]:
+        for machine, goals, _, _, _ in games_won()[:40]:
             foes = Machine(machine.clocks, machine.places, tuple(told for told in machine.deeds if told[0] == "foe"))
             self.assertEqual(len(rounds(foes, goals)), 1)
 
     def test_no_deeds_of_the_foe_are_moves(self):
         random = seeded("no foe")
-        for machine, goals, plain, _, _ in drawn_games("won", 180)[:40]:
+        for machine, goals, plain, _, _ in games_won()[:40]:
             own = Machine(machine.clocks, machine.places, tuple(told for told in machine.deeds if told[0] == "own"))
             self.assertIs(are_equal_fields(own, won_field(own, goals), coming(own, goals)), True)
             for standing in looked_standings(random, machine, plain, 3):
@@ -209,7 +187,7 @@ class RanksTest(unittest.TestCase):
     def test_ranks(self):
         random = seeded("ranks")
         told = {}
-        for machine, goals, plain, ranks, last in drawn_games("won", 180):
+        for machine, goals, plain, ranks, last in games_won():
             for standing in looked_standings(random, machine, plain):
                 expected = ranks.get(plain_key(machine, standing))
                 told[expected] = told.get(expected, 0) + 1
@@ -246,7 +224,7 @@ class RanksTest(unittest.TestCase):
         # [12.4], [12.5]: behind at most as many offers as the rank tells, whatever is answered.
         random = seeded("played out")
         found = 0
-        for machine, goals, plain, ranks, _ in drawn_games("won", 180):
+        for machine, goals, plain, ranks, _ in games_won():
             fields = rounds(machine, goals)
             for key in random.sample(sorted(ranks), min(4, len(ranks))):
                 standing, turns = plain.standing(key), []
@@ -268,7 +246,7 @@ class RanksTest(unittest.TestCase):
         # [12.4]: at rank k each offer has an answer to rank k - 1 at least, or to no rank.
         random = seeded("answered")
         found = {True: 0, False: 0}
-        for machine, goals, plain, ranks, _ in drawn_games("won", 180):
+        for machine, goals, plain, ranks, _ in games_won():
             for key in random.sample(sorted(plain.standings), min(6, len(plain.standings))):
                 number = ranks.get(key)
                 if number == 0:
@@ -346,7 +324,7 @@ class MoreAndLessTest(Calls, unittest.TestCase):
 
     def test_further_goals_and_own_deeds_fewer_deeds_of_the_foe(self):
         random = seeded("more and less")
-        for machine, goals, _, _, _ in drawn_games("won", 180)[:60]:
+        for machine, goals, _, _, _ in games_won()[:60]:
             fields = rounds(machine, goals)
             further = tuple(sorted(set(goals) | {random.randrange(len(machine.places))}))
             self.assert_more(fields, machine, rounds(machine, further))
@@ -363,7 +341,7 @@ class MoreAndLessTest(Calls, unittest.TestCase):
 
     def test_greater_numbers(self):
         random = seeded("greater")
-        for machine, goals, plain, ranks, last in drawn_games("won", 180)[:60]:
+        for machine, goals, plain, ranks, last in games_won()[:60]:
             times = random.randint(2, 20 // max(1, machine.most))
             places = tuple(self.scaled(place, times) for place in machine.places)
             deeds = tuple((*told[:3], self.scaled(told[3], times), told[4]) for told in machine.deeds)
@@ -378,7 +356,7 @@ class MoreAndLessTest(Calls, unittest.TestCase):
 
     def test_renumbered_places(self):
         random = seeded("renumbered")
-        for machine, goals, plain, ranks, last in drawn_games("won", 180)[:60]:
+        for machine, goals, plain, ranks, last in games_won()[:60]:
             order = random.sample(range(len(machine.places)), len(machine.places))
             told = {index: place for place, index in enumerate(order)}
             other, its_goals = placed(machine, tuple(order)), tuple(sorted(told[goal] for goal in goals))
@@ -391,7 +369,7 @@ class MoreAndLessTest(Calls, unittest.TestCase):
 
     def test_the_rest_of_what_is_won_is_held_for_ever(self):
         # [12.4]: from there no right pause leads to what leads into the won field.
-        for machine, goals, _, _, _ in drawn_games("won", 180)[:40]:
+        for machine, goals, _, _, _ in games_won()[:40]:
             won = won_field(machine, goals)
             goods, bads = led_into(machine, won), led_out(machine, won)
             for place, area in enumerate(rest(machine, won)):

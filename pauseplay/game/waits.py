@@ -1,7 +1,7 @@
 """Waiting into some grids past others. Nothing is checked here: integers have any length."""
 
 from pauseplay.base.stretches import is_in_stretch, is_stretch_empty, shared_stretch, simplest_of
-from pauseplay.lots.grids import earlier_grid, met_grid
+from pauseplay.lots.grids import earlier_grid
 from pauseplay.lots.joins import joined_grids
 from pauseplay.lots.parts import cutters_of, grids_less, parts_left
 from pauseplay.lots.spots import stretch_into

@@ -106,11 +106,14 @@ def grids_common(grids, others):
     return thinned_grids([grid for grid in met if grid is not None])
 
 
-def parts_left(grid, cutters):
-    """Grids with just the points of the grid that all cutters lack; no two of them share one."""
+def parts_left(grid, cutters, most=None):
+    """Grids with just the points of the grid that all cutters lack; no two of them share one.
+
+    With a number as the most, no more than so many of them are looked for.
+    """
     left = []
     waiting = [(grid, cutters)]
-    while waiting:
+    while waiting and len(left) != most:
         part, near = waiting.pop()
         near = near_ones(part, near)
         if index_around(part, near) is None:
@@ -130,16 +133,7 @@ def grids_less(grids, others):
 
 def is_covered(grid, cutters):
     """Whether all points of the grid are points of the cutters."""
-    waiting = [(grid, cutters)]
-    while waiting:
-        part, near = waiting.pop()
-        near = near_ones(part, near)
-        if index_around(part, near) is None:
-            cutter = best_cutter(part, near)
-            if cutter is None:
-                return False
-            waiting.extend([(outside, near) for _, outside in parts_cut_off(part, cutter[1])])
-    return True
+    return parts_left(grid, cutters, 1) == []
 
 
 def uncovered_ones(grids, others):
