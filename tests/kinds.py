@@ -179,6 +179,10 @@ NOT_MOVES = (
 )
 
 
+# In the place of the wrong values of a parameter for which nothing is raised.
+ANY = (None, (), None)
+
+
 class Calls:
     """Assertions about errors, for a test case."""
 
@@ -217,3 +221,20 @@ class Calls:
     def assert_too_many(self, limit, call, *arguments):
         """The call raises TooMany with the limit."""
         self.assert_kept(TooMany, "limit", limit, call, *arguments)
+
+    def assert_wrong(self, value, error, call, arguments):
+        """The call raises the error, with the value if that is kept."""
+        if error is InvalidNumber:
+            self.assert_number_refused(value, call, *arguments)
+        else:
+            self.assert_refused(error, call, *arguments)
+
+    def look_at(self, call, parameters):
+        """Each parameter, told as (good value, wrong values, error), is made wrong alone, and with all behind it wrong."""
+        good = [parameter[0] for parameter in parameters]
+        call(*good)
+        for at, (_, values, error) in enumerate(parameters):
+            further = [None if each is ANY else each[1][0] for each in parameters[at + 1:]]
+            for value in values:
+                self.assert_wrong(value, error, call, good[:at] + [value] + good[at + 1:])
+                self.assert_wrong(value, error, call, good[:at] + [value] + further)

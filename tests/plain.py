@@ -56,6 +56,7 @@ def plain_class(shown, most):
     return (wholes, tuple((at, ranks.index(rest)) for at, rest in sorted(rests.items())))
 
 
+@cache
 def class_points(clocks, most):
     """A point of each class, as what is shown with nought ahead, by its class."""
     step = clocks + 1
@@ -71,6 +72,7 @@ class Plain:
 
     def __init__(self, machine):
         self.machine = machine
+        self.led = {}
         self.points = class_points(machine.clocks, machine.most)
         self.standings = {
             (place, told): shown
@@ -91,10 +93,17 @@ class Plain:
             if told[0] == owner and is_open_at(self.machine, deed, place, shown)
         ]
 
+    def led_at(self, place, shown):
+        """Where own deeds and the foe's deeds lead; alike points are asked for once."""
+        key = self.key(place, shown)
+        if key not in self.led:
+            self.led[key] = (self.led_by("own", place, shown), self.led_by("foe", place, shown))
+        return self.led[key]
+
     def way_of(self, place, shown):
         """For each moment, one behind the other, where own deeds and the foe's deeds lead then."""
         later = [grown(shown, pause) for pause in let_moments(self.machine, place, shown)]
-        return [(self.led_by("own", place, now), self.led_by("foe", place, now)) for now in later]
+        return [self.led_at(place, now) for now in later]
 
     def is_won_next(self, at, ranks):
         """Whether some offer leads to what has a rank, whatever is answered."""

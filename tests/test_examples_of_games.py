@@ -1,4 +1,4 @@
-"""The examples of the document under the stages 10 to 12, line by line, each with the very answer that stands there."""
+"""The examples of the document under the stages 10 to 16, line by line, each with the very answer that stands there."""
 
 import unittest
 
@@ -37,6 +37,52 @@ STAGE_12 = r'''
 [True, False, False, True]
 '''
 
+STAGE_13 = r'''
+>>> GATE = Machine(1, ((), (), ()), (("own", 0, 1, ((0, 1, (-1, 1)),), ()), ("foe", 0, 2, ((0, 1, (-2, 0)),), ())))
+>>> LOW, FROM = (((0, 1), (0, 1)), ((2, 1), (0, 1))), (((0, 1), (-1, 1)), (None, (0, 1)))
+>>> PAPER = ((0, LOW, 0, FROM),)
+>>> [is_own_paper(GATE, (1,), PAPER), is_own_paper(GATE, (1,), ((0, FROM, 0, FROM),)), are_equal(paper_field(GATE, (1,), PAPER)[0], (LOW,)), own_paper(GATE, (2,))]
+[True, False, True, ()]
+>>> [offer_by(GATE, (1,), PAPER, (0, (2, (1,)))), row_at(GATE, (1,), PAPER, (0, (2, (3,)))), row_at(GATE, (1,), PAPER, (0, (2, (5,)))), is_offer_by(GATE, (1,), PAPER, (0, (2, (1,))), ((1, 2), 0)), is_offer_by(GATE, (1,), PAPER, (0, (2, (1,))), ((7, 4), 0))]
+[((1, 1), 0), 0, None, True, False]
+>>> offer_by(GATE, (1,), ((0, FROM, 0, FROM),), (0, (1, (0,))))
+raises InvalidOperation
+'''
+
+STAGE_14 = r'''
+>>> GATE = Machine(1, ((), (), ()), (("own", 0, 1, ((0, 1, (-1, 1)),), ()), ("foe", 0, 2, ((0, 1, (-2, 0)),), ())))
+>>> ALL, HIGH = (((0, 1), (0, 1)), (None, (0, 1))), (((0, 1), (-2, 0)), (None, (0, 1)))
+>>> HELD = ((HIGH,), (), (ALL,))
+>>> [are_equal_fields(GATE, foe_paper(GATE, (1,)), HELD), is_foe_paper(GATE, (1,), HELD), is_foe_paper(GATE, (1,), ((HIGH,), (), ())), is_foe_paper(GATE, (1,), ((), (), (ALL,)))]
+[True, True, False, True]
+>>> [answer_by(GATE, (1,), HELD, (0, (1, (3,))), ((0, 1), 0)), outcome(GATE, (1,), (0, (2, (5,))))[0], outcome(GATE, (1,), (0, (1, (2,))))[0]]
+[('deed', (0, 1), 1), 'held', 'won']
+>>> is_outcome(GATE, (1,), (0, (1, (2,))), ("won", ((0, (((0, 1), (0, 1)), ((2, 1), (0, 1))), 0, (((0, 1), (-1, 1)), (None, (0, 1)))),)))
+True
+'''
+
+STAGE_15 = r'''
+>>> WATCH = Machine(1, ((), ()), (("own", 0, 0, ((0, 1, (-1, 1)),), (1,)), ("foe", 0, 1, ((0, 1, (-1, 0)),), ())))
+>>> LOW, HIGH = (((0, 1), (0, 1)), ((1, 1), (0, 1))), (((0, 1), (-1, 0)), (None, (0, 1)))
+>>> [is_kept_field(WATCH, (1,), ((LOW,), ())), are_equal_fields(WATCH, kept_field(WATCH, (1,)), ((LOW,), ())), is_hunt(WATCH, (1,), (((HIGH,), ()),)), is_hunt(WATCH, (1,), (((LOW,), ()),))]
+[True, True, True, False]
+>>> [keep_offer(WATCH, (1,), ((LOW,), ()), (0, (2, (1,)))), is_keep_offer(WATCH, (1,), ((LOW,), ()), (0, (2, (1,))), None), kept_or_hunted(WATCH, (1,), (0, (1, (2,))))[0]]
+[((1, 2), 0), False, 'hunted']
+>>> [hunt_answer(WATCH, (1,), (((HIGH,), ()),), (0, (2, (3,))), offer) for offer in (None, ((1, 1), 0))]
+[('deed', (0, 1), 1), ('deed', (0, 1), 1)]
+'''
+
+STAGE_16 = r'''
+>>> DOOR = Machine(1, (((1, 0, (3, 1)),), ()), (("own", 0, 1, ((0, 1, (-2, 0)),), ()), ("foe", 0, 0, ((1, 0, (1, 1)),), (1,))))
+>>> [least_time(DOOR, (1,), (0, (2, (3,))), 5), least_time(DOOR, (1,), (0, (1, (1,))), 5), within(DOOR, (1,), (0, (2, (3,))), 0), least_time(DOOR, (1,), (1, (1, (9,))), 5)]
+[((1, 2), 0), None, False, ((0, 1), 1)]
+>>> TIMED, GOALS = with_time(DOOR, (1,), 5)
+>>> [TIMED.clocks, len(TIMED.places), GOALS, TIMED.deeds[0][3], origins_of(DOOR, (1,)), timed_standing(DOOR, (1,), (0, (2, (3,))), 5, (1, 3))]
+[2, 3, (1,), ((0, 1, (-2, 0)), (2, 0, (5, 1))), (0, 1), (0, (6, (9, 2)))]
+>>> [time_paper(DOOR, (1,), (0, (1, (1,))), 5)[0], time_paper(DOOR, (1,), (0, (2, (3,))), 1)[0], is_time_paper(DOOR, (1,), (0, (1, (1,))), 5, ("too late", ((), (), ())))]
+['too late', 'in time', False]
+'''
+
 
 class ExamplesTest(Examples, unittest.TestCase):
     def test_stage_10(self):
@@ -47,6 +93,18 @@ class ExamplesTest(Examples, unittest.TestCase):
 
     def test_stage_12(self):
         self.assert_examples(STAGE_12)
+
+    def test_stage_13(self):
+        self.assert_examples(STAGE_13)
+
+    def test_stage_14(self):
+        self.assert_examples(STAGE_14)
+
+    def test_stage_15(self):
+        self.assert_examples(STAGE_15)
+
+    def test_stage_16(self):
+        self.assert_examples(STAGE_16)
 
 
 if __name__ == "__main__":

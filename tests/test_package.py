@@ -137,6 +137,45 @@ FUNCTIONS = {
         "rank": "machine goals standing",
         "won_or_held": "machine goals standing",
     },
+    "pauseplay.game.own": {
+        "own_paper": "machine goals",
+        "is_own_paper": "machine goals value",
+        "paper_field": "machine goals paper",
+        "row_at": "machine goals paper standing",
+        "offer_by": "machine goals paper standing",
+        "is_offer_by": "machine goals paper standing value",
+    },
+    "pauseplay.game.foe": {
+        "foe_paper": "machine goals",
+        "is_foe_paper": "machine goals value",
+        "answer_by": "machine goals field standing offer",
+        "is_answer_by": "machine goals field standing offer value",
+        "outcome": "machine goals standing",
+        "is_outcome": "machine goals standing value",
+    },
+    "pauseplay.game.keep": {
+        "safe_by": "machine bads field",
+        "kept_field": "machine bads",
+        "is_kept_field": "machine bads value",
+        "hunt": "machine bads",
+        "is_hunt": "machine bads value",
+        "keep_offer": "machine bads field standing",
+        "is_keep_offer": "machine bads field standing value",
+        "hunt_rank": "machine bads fields standing",
+        "hunt_answer": "machine bads fields standing offer",
+        "is_hunt_answer": "machine bads fields standing offer value",
+        "kept_or_hunted": "machine bads standing",
+        "is_kept_or_hunted": "machine bads standing value",
+    },
+    "pauseplay.game.time": {
+        "with_time": "machine goals most",
+        "origins_of": "machine goals",
+        "timed_standing": "machine goals standing most passed",
+        "within": "machine goals standing most",
+        "least_time": "machine goals standing most",
+        "time_paper": "machine goals standing most",
+        "is_time_paper": "machine goals standing most value",
+    },
 }
 
 CONSTANTS = {
@@ -168,6 +207,14 @@ class InterfaceTest(unittest.TestCase):
                     function = getattr(module, name)
                     self.assertEqual(function.__module__, module_name)
                     self.assertEqual(list(inspect.signature(function).parameters), parameters.split())
+
+    def test_no_other_function_has_a_name_of_the_interface(self):
+        told = {name: module_name for module_name, functions in FUNCTIONS.items() for name in functions}
+        for path, text in sources():
+            module_name = ".".join(path.relative_to(FOLDER.parent).with_suffix("").parts)
+            for node in ast.parse(text).body:
+                if isinstance(node, (ast.FunctionDef, ast.ClassDef)) and node.name in told:
+                    self.assertEqual(told[node.name], module_name, node.name)
 
     def test_constants_stand_in_their_modules(self):
         for module_name, constants in CONSTANTS.items():

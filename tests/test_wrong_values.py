@@ -17,7 +17,7 @@ from pauseplay.machine.fields import ahead_of_deed, ahead_of_wait, are_equal_fie
 from pauseplay.machine.fields import field_has, is_field, is_within_field, joined, places_field, rest
 from pauseplay.machine.reach import coming, coming_within, fewest_moves, is_closed, is_run_or_closed, run_or_closed
 from pauseplay.machine.runs import done, is_standing, longest, pauses_for, run, time_of, waited
-from tests.kinds import GREATEST, LAMP, NOT_AREAS_OF_TWO, NOT_BACK, NOT_CLASSES, NOT_CLOCK_NUMBERS, NOT_FIELDS
+from tests.kinds import ANY, GREATEST, LAMP, NOT_AREAS_OF_TWO, NOT_BACK, NOT_CLASSES, NOT_CLOCK_NUMBERS, NOT_FIELDS
 from tests.kinds import NOT_INDICES_OF_DEEDS, NOT_INDICES_OF_PLACES, NOT_INTEGERS, NOT_MACHINES, NOT_MOST, NOT_MOVES
 from tests.kinds import NOT_PAIRS, NOT_PAUSES, NOT_PLACES, NOT_POINTS, NOT_STANDINGS, NOUGHT_OF_TWO, Calls
 
@@ -66,7 +66,6 @@ BACK = ((1,), NOT_BACK, InvalidOperation)
 OFFERED = (OFFER, NOT_OFFERS, InvalidOperation)
 ANSWER = (("let",), NOT_ANSWERS, InvalidOperation)
 TURNS = ((), NOT_TURNS, InvalidOperation)
-ANY = (None, (), None)
 
 CALLS_OF_MACHINES = (
     (is_standing, MACHINE, ANY), (waited, MACHINE, STANDING, PAUSE), (run, MACHINE, STANDING, MOVES), (longest, MACHINE, STANDING),
@@ -95,21 +94,6 @@ CALLS_OF_GAMES = (
 
 
 class WrongValuesTest(Calls, unittest.TestCase):
-    def assert_wrong(self, value, error, call, arguments):
-        if error is InvalidNumber:
-            self.assert_number_refused(value, call, *arguments)
-        else:
-            self.assert_refused(error, call, *arguments)
-
-    def look_at(self, call, parameters):
-        good = [parameter[0] for parameter in parameters]
-        call(*good)
-        for at, (_, values, error) in enumerate(parameters):
-            further = [None if each is ANY else each[1][0] for each in parameters[at + 1:]]
-            for value in values:
-                self.assert_wrong(value, error, call, good[:at] + [value] + good[at + 1:])
-                self.assert_wrong(value, error, call, good[:at] + [value] + further)
-
     def test_calls_of_machines(self):
         for call, *parameters in CALLS_OF_MACHINES:
             self.look_at(call, parameters)

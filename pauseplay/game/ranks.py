@@ -11,8 +11,8 @@ from pauseplay.machine.spreads import deeds_from, grids_ahead_of_deed
 class Rounds:
     """The standings that are won by few offers: a spread, what the last round added, and how many rounds are gone.
 
-    For each place there is what leads into the spread, and for each deed of the foe what it
-    leads out of it. Only what changes in a round is looked at in the next one.
+    For each own deed there is what it leads into the spread, and for each deed of the foe
+    what it leads out of it. Only what changes in a round is looked at in the next one.
     """
 
     def __init__(self, layout, goals):
@@ -21,7 +21,7 @@ class Rounds:
         self.gone = 0
         self.won = [[limit] if place in goals else [] for place, limit in enumerate(layout.limits)]
         self.added = [list(grids) for grids in self.won]
-        self.into = [[] for _ in layout.limits]
+        self.into = [[] for _ in layout.opened]
         self.out = [[] if grid is None else [grid] for grid in layout.opened]
 
     def led_to_added(self, deed):
@@ -39,11 +39,10 @@ class Rounds:
             bads.extend(self.out[deed])
         return (bads, freed)
 
-    def goods_at(self, place, freed):
-        """Those grids at which own deeds lead into the spread and that are new, or come to past what is freed."""
-        ahead = [grid for deed in deeds_from(self.layout, place, ("own",)) for grid in self.led_to_added(deed)]
-        self.into[place], fresh = joined_into(self.into[place], ahead)
-        again = [grid for grid in self.into[place] if grid not in fresh and is_any_met(earlier_grid(grid), freed)]
+    def goods_by(self, deed, freed):
+        """Those grids at which the own deed leads into the spread and that are new, or come to past what is freed."""
+        self.into[deed], fresh = joined_into(self.into[deed], self.led_to_added(deed))
+        again = [grid for grid in self.into[deed] if grid not in fresh and is_any_met(earlier_grid(grid), freed)]
         return fresh + again
 
     def added_at(self, place):
@@ -51,8 +50,13 @@ class Rounds:
         if place in self.goals:
             return []
         bads, freed = self.bads_at(place)
-        goods = self.goods_at(place, freed)
-        return uncovered_ones(way_grids(goods, bads), self.won[place])
+        goods = [(deed, self.goods_by(deed, freed)) for deed in deeds_from(self.layout, place, ("own",))]
+        return self.ways_at(place, goods, bads)
+
+    def ways_at(self, place, goods, bads):
+        """Grids that wait into the goods, a list of grids for each deed, past the bads, if the spread lacks a point."""
+        all_goods = [grid for _, grids in goods for grid in grids]
+        return uncovered_ones(way_grids(all_goods, bads), self.won[place])
 
     def go_on(self):
         """Go to the next round if it has further standings; tell whether it has."""

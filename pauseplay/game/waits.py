@@ -20,10 +20,14 @@ def ways_into(good, bads):
     return parts_left(ahead, cutters_of(joined_grids([earlier_grid(grid) for grid in met])))
 
 
+def goods_less(goods, bads):
+    """Grids of the points of the goods that are none of the bads."""
+    return joined_grids(grids_less(goods, bads))
+
+
 def way_grids(goods, bads):
     """Grids of the points with a pause into the goods, up to which, at its end too, none of the bads is met."""
-    left = joined_grids(grids_less(goods, bads))
-    return joined_grids([grid for good in left for grid in ways_into(good, bads)])
+    return joined_grids([grid for good in goods_less(goods, bads) for grid in ways_into(good, bads)])
 
 
 def safe_before(bad, point):

@@ -1,46 +1,28 @@
 """Rounds: what is won against the foe by so many offers, and what is held."""
 
+from pauseplay.game.leads import all_led, all_led_off
 from pauseplay.game.ranks import Rounds, rank_in
 from pauseplay.lots.grids import lot_of
-from pauseplay.lots.joins import joined_grids
-from pauseplay.lots.parts import grids_less
 from pauseplay.machine.fields import check_field, field_of, spread_of
 from pauseplay.machine.machines import check_machine, check_places
 from pauseplay.machine.runs import check_standing
-from pauseplay.machine.spreads import Layout, deeds_from, grids_ahead_of_deed
-
-
-def grids_led(layout, deed, spread):
-    """Grids of the points at which the deed is open and leads into the spread."""
-    return grids_ahead_of_deed(layout, deed, spread[layout.all_deeds[deed][2]])
-
-
-def grids_led_off(layout, deed, spread):
-    """Grids of the points at which the deed is open and leads to a point that the spread lacks."""
-    return grids_less([layout.opened[deed]], grids_led(layout, deed, spread))
-
-
-def led_field(machine, field, owner, led):
-    """The field of what deeds of the owner lead, as a function of a layout, a deed and a spread tells."""
-    layout, spread = Layout(machine), spread_of(field)
-    return field_of([
-        joined_grids([grid for deed in deeds_from(layout, place, (owner,)) for grid in led(layout, deed, spread)])
-        for place in range(len(spread))
-    ])
+from pauseplay.machine.spreads import Layout
 
 
 def led_into(machine, field):
     """A field of just the standings at which some own deed is open and leads into the field."""
     check_machine(machine)
     check_field(machine, field)
-    return led_field(machine, field, "own", grids_led)
+    layout, spread = Layout(machine), spread_of(field)
+    return field_of([all_led(layout, place, "own", spread) for place in range(len(spread))])
 
 
 def led_out(machine, field):
     """A field of just the standings at which some deed of the foe is open and leads out of the field."""
     check_machine(machine)
     check_field(machine, field)
-    return led_field(machine, field, "foe", grids_led_off)
+    layout, spread = Layout(machine), spread_of(field)
+    return field_of([all_led_off(layout, place, "foe", spread) for place in range(len(spread))])
 
 
 def field_with(spread, lots):
