@@ -5,6 +5,7 @@ import importlib
 MODULES = """
     errors base.bounds base.points lots.lots lots.moves lots.areas machine.machines machine.runs machine.classes
     machine.fields machine.reach game.ways game.plays game.won game.own game.foe game.keep game.time
+    side.products texts.texts check.checker house.desk
 """.split()
 
 KEPT = ("given", "asked", "spot", "wanted", "limit", "reason")

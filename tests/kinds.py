@@ -92,6 +92,7 @@ NOT_AREAS = (
     + ((((((0, 1),),),),), ((((0, 1),),), (((0, 1), (0, 1)), (None, (0, 1)))), ((((0, 1),),),) * 5001)
     + tuple((lot,) for lot in NOT_LOTS)
     + tuple(((((0, 1), (0, 1)), (None, (0, 1))), lot) for lot in NOT_LOTS)
+    + tuple((lot, (((0, 1), (0, 1)), (None, (0, 1)))) for lot in NOT_LOTS)
 )
 
 NOT_MACHINES = NOT_INTEGERS + NOT_PAIRS + (5, (1, ((),), ()), (1, ((),), (), 0), [1, [[]], []])

@@ -8,13 +8,13 @@ from pauseplay.game.own import is_offer_by, is_own_paper, offer_by, own_paper, p
 from pauseplay.game.plays import behind, is_offer, played
 from pauseplay.game.ways import is_pause_for, pause_for, way
 from pauseplay.game.won import led_out, rank, rounds, won_field
-from pauseplay.lots.areas import is_area, less
+from pauseplay.lots.areas import is_area
 from pauseplay.lots.lots import everything, is_lot_within, lot_or_ring
 from pauseplay.machine.fields import ahead_of_deed, are_equal_fields, field_has, is_field, is_within_field
 from pauseplay.machine.machines import Machine, deeds_at, limits
 from tests.drawn import seeded, shown_by
 from tests.kinds import GREATEST, TOO_GREAT, Calls, nested
-from tests.plain import games_won, looked_standings, moments, plain_key
+from tests.plain import games_won, looked_standings, moments
 from tests.plain_games import bent_lot, bounded_games, drawn_answer, drawn_games
 from tests.test_reach import wheels
 from tests.test_ways import at, span

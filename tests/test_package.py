@@ -176,6 +176,34 @@ FUNCTIONS = {
         "time_paper": "machine goals standing most",
         "is_time_paper": "machine goals standing most value",
     },
+    "pauseplay.side.products": {
+        "side_by_side": "one other shared",
+        "deeds_told": "one other shared",
+        "joined_standing": "one other here there",
+        "parted_standing": "one other standing",
+        "parted_course": "one other shared standing course",
+        "joined_course": "one other shared here first there last",
+        "goals_beside": "one other goals",
+        "bads_beside": "one other bads others",
+    },
+    "pauseplay.texts.texts": {
+        "text_of": "machine names",
+        "read_machine": "text",
+        "standing_text": "machine names standing",
+        "read_standing": "machine names text",
+        "play_text": "machine names turns",
+        "read_play": "machine names text",
+    },
+    "pauseplay.check.checker": {
+        "kinds": "",
+        "is_claim": "value",
+        "opposite": "claim",
+        "takes": "claim paper",
+    },
+    "pauseplay.house.desk": {
+        "Desk": "machine",
+        "read_log": "text",
+    },
 }
 
 CONSTANTS = {
@@ -186,9 +214,20 @@ CONSTANTS = {
     "pauseplay.machine.runs": {"MOST_MOVES": 400},
     "pauseplay.machine.classes": {"MOST_CLASSES": 5000, "MOST_WHOLE": 20},
     "pauseplay.machine.reach": {"MOST_MOVES": 400},
+    "pauseplay.texts.texts": {"MOST_TEXT": 20000},
+    "pauseplay.house.desk": {"MOST_WATCHES": 8, "MOST_DONE": 400},
 }
 
-CLASSES = {("pauseplay.machine.machines", "Machine"): "__init__ __eq__ __str__ clocks places deeds most"}
+CLASSES = {
+    ("pauseplay.machine.machines", "Machine"): "__init__ __eq__ __str__ clocks places deeds most",
+    ("pauseplay.house.desk", "Desk"): (
+        "__init__ __eq__ machine done watches edit watch unwatch answer paper changed undo log twin"
+    ),
+}
+
+METHODS = {
+    "edit": "changes", "watch": "name goals standing", "unwatch": "name", "answer": "name", "paper": "name", "changed": "name", "undo": "many", "log": "", "twin": "",
+}
 
 LIBRARY = ("gcd", "lcm", "isqrt", "comb", "perm", "factorial")
 
@@ -231,6 +270,14 @@ class InterfaceTest(unittest.TestCase):
             for name in names.split():
                 with self.subTest(module=module_name, name=name):
                     self.assertIn(name, told)
+
+
+    def test_methods_of_the_desk(self):
+        desk = getattr(importlib.import_module("pauseplay.house.desk"), "Desk")
+        for name, parameters in METHODS.items():
+            told = inspect.signature(getattr(desk, name)).parameters
+            self.assertEqual(list(told), ["self"] + parameters.split())
+            self.assertEqual([each.default for each in told.values() if each.default is not each.empty], [1] if name == "undo" else [])
 
 
 class FilesTest(unittest.TestCase):

@@ -10,7 +10,7 @@ from pauseplay.game.own import is_offer_by, is_own_paper, offer_by, own_paper, p
 from pauseplay.game.time import is_time_paper, least_time, origins_of, time_paper, timed_standing, with_time, within
 from pauseplay.machine.fields import places_field
 from tests.kinds import ANY, GREATEST, LAMP, NOT_FIELDS, NOT_INDICES_OF_DEEDS, NOT_INDICES_OF_PLACES, NOT_INTEGERS
-from tests.kinds import NOT_LOTS, NOT_MOST, NOT_PAIRS, NOT_PAUSES, NOT_PLACES, NOT_STANDINGS, NOUGHT_OF_TWO, Calls
+from tests.kinds import NOT_LOTS, NOT_MOST, NOT_PAIRS, NOT_PAUSES, NOT_PLACES, NOT_STANDINGS, Calls
 from tests.test_wrong_values import FIELD, GOALS, MACHINE, NOT_ANSWERS, NOT_OFFERS, OFFER, STANDING
 
 PAPER = own_paper(LAMP, (1,))

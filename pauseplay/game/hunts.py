@@ -37,12 +37,12 @@ class Ground:
         """Put the points of a spread to the ground."""
         both = [joined_into(grids, fresh) for grids, fresh in zip(self.spread, further)]
         self.spread = [grids for grids, _ in both]
-        self.changed = [False for _ in self.spread]
+        self.stirred = [False for _ in self.spread]
         for deed, (owner, start, goal, _, _) in enumerate(self.layout.all_deeds):
             fresh = both[goal][1]
             if fresh and self.layout.opened[deed] is not None:
                 led = grids_ahead_of_deed(self.layout, deed, fresh)
-                self.changed[start] = self.changed[start] or led != []
+                self.stirred[start] = self.stirred[start] or led != []
                 if owner == "foe":
                     self.into[deed] = joined_into(self.into[deed], led)[0]
                 else:
@@ -74,7 +74,7 @@ class Ground:
 
     def added_at(self, place):
         """Grids of the points at the place that are hunted by the ground, and that it lacks in part."""
-        if place in self.bads or not self.changed[place]:
+        if place in self.bads or not self.stirred[place]:
             return []
         return uncovered_ones(self.hunted_at(place), self.spread[place])
 

@@ -15,9 +15,9 @@ MOST_KNOTS = 4000
 
 def is_area_of_some(value):
     """Whether the value is an area of some number of clocks."""
-    if not (isinstance(value, tuple) and len(value) <= MOST_LOTS):
+    if not (isinstance(value, tuple) and len(value) <= MOST_LOTS and all([is_lot(lot) for lot in value])):
         return False
-    return all([is_lot(lot) and len(lot) == len(value[0]) for lot in value])
+    return all([len(lot) == len(value[0]) for lot in value])
 
 
 def is_area(clocks, value):

@@ -1,0 +1,1 @@
+"""Claims, and whether papers show them."""

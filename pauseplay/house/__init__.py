@@ -1,0 +1,1 @@
+"""The desk at which a machine is edited, and watched."""

@@ -1,0 +1,1 @@
+"""Two machines side by side, and what runs of both are for each."""

@@ -1,0 +1,1 @@
+"""Texts of machines, standings and plays."""
