@@ -324,6 +324,8 @@ class AnswersTest(Calls, unittest.TestCase):
         self.assertEqual((further.done, further.changed("go")), (2, (("won", 1), ("held", 0))))
 
     def test_equal_desks(self):
+        self.assertIs(Desk(ROOM) == Desk(LAMP), False)
+        self.assertIs(Desk(ROOM) == Desk(Machine(1, ((), ()), (GO,))), True)
         # Another way to the same machine has another log.
         desk, other = Desk(ROOM), Desk(ROOM)
         self.assertIs(desk == other, True)

@@ -149,6 +149,19 @@ class JudgeTest(unittest.TestCase):
         self.assertIs(is_own_paper(step, (1,), parts[:2] + (last,)), False)
         self.assertIs(is_own_paper(step, (1,), parts[::2] + (last,)), False)
 
+    def test_targets_that_lead_into_lots_that_make_up_none(self):
+        step = Machine(2, ((), (), ()), (("own", 0, 1, ((1, 0, (3, 1)), (2, 0, (3, 1))), ()), ("own", 2, 0, (), ())))
+
+        def box(*ends):
+            (low, high), (its_low, its_high) = ends
+            rules = ((0, 1, (-low, 1)), (0, 2, (-its_low, 1)), (1, 0, (high, 1)), (2, 0, (its_high, 1)))
+            return lot_or_ring(2, rules)[1]
+
+        parts = tuple((0, lot, 0, lot) for lot in (box((0, 1), (0, 3)), box((1, 3), (0, 2))))
+        for target, expected in ((box((0, 2), (0, 2)), True), (box((0, 3), (0, 2)), True), (box((0, 2), (0, 3)), False), (box((1, 1), (0, 3)), True)):
+            self.assertIs(is_own_paper(step, (1,), parts + ((2, target, 1, target),)), expected)
+            self.assertIs(is_own_paper(step, (1,), parts[:1] + ((2, target, 1, target),)), target == box((1, 1), (0, 3)))
+
     def test_lots(self):
         # A foe deed that leads out is met on the way, or at the very end of it; and beyond the limits.
         self.assertIs(self.judge((0, span(0, 1, 2, 1), 0, span(3, 1, None, 0))), False)
@@ -244,6 +257,20 @@ class OffersTest(Calls, unittest.TestCase):
             self.assertIs(is_offer_by(machine, (1,), rows, at(0), (pause, 0)), last)
         self.assertEqual(offer_by(machine, (1,), rows, at(5)), ((0, 1), 0))
         self.assertEqual(offer_by(machine, (1,), rows, at(0)), ((1, 1), 0))
+
+    def test_what_leads_into_the_lot_of_the_row_itself_is_bad_for_it(self):
+        ring = Machine(1, ((), ()), (("own", 0, 1, ((0, 1, (-1, 1)),), ()), ("foe", 0, 0, ((0, 1, (-1, 0)),), (1,))))
+        low, rest = span(0, 1, 1, 1), (0, everything(1), 0, everything(1))
+        paper = ((0, low, 0, FROM),)
+        self.assertIs(is_own_paper(ring, (1,), paper), True)
+        self.assertIs(is_own_paper(ring, (1,), (rest,)), False)
+        for pause, expected in (((1, 1), True), ((3, 2), False), ((1, 2), False)):
+            self.assertIs(is_offer_by(ring, (1,), paper, at(0), (pause, 0)), expected)
+        # Of a later row it is let.
+        paper = paper + ((0, everything(1), 0, FROM),)
+        self.assertIs(is_own_paper(ring, (1,), paper), True)
+        self.assertIs(is_offer_by(ring, (1,), paper, at(0), ((3, 2), 0)), True)
+        self.assertEqual(offer_by(ring, (1,), paper, at(5, 2)), ((0, 1), 0))
 
     def test_just_the_offers_of_rows(self):
         random = seeded("row offers")

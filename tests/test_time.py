@@ -252,6 +252,19 @@ class InTimeTest(unittest.TestCase):
         self.assertIsNone(least_time(steps, (2,), at(0), 4))
         self.assertEqual(least_time(steps, (2,), at(0), 5), ((4, 1), 0))
 
+    def test_the_best_one_of_several_ways(self):
+        # By the one deed at 2, as long as the other clock is at most 5, by the other one behind 2, or at 3.
+        near = ("own", 0, 1, ((0, 1, (-2, 1)), (2, 0, (5, 1))), ())
+        for late, least, its_least in (
+            ((0, 1, (-2, 0)), ((2, 1), 1), ((2, 1), 0)), ((0, 1, (-3, 1)), ((2, 1), 1), ((3, 1), 1)), ((0, 1, (-1, 0)), ((1, 1), 0), ((1, 1), 0)),
+        ):
+            for deeds in ((near, ("own", 0, 1, (late,), ())), (("own", 0, 1, (late,), ()), near)):
+                machine = Machine(2, ((), ()), deeds)
+                self.assertEqual(least_time(machine, (1,), (0, (1, (0, 0))), 20), least)
+                self.assertEqual(least_time(machine, (1,), (0, (1, (0, 3))), 20), least)
+                self.assertEqual(least_time(machine, (1,), (0, (1, (0, 4))), 20), its_least)
+                self.assertEqual(within(machine, (1,), (0, (1, (0, 0))), 2), True)
+
     def test_twelve_places_and_four_clocks_when_timed(self):
         deeds = tuple(("own", place, place + 1, ((0, 1 + place % 3, (-1, 1)),), (1 + place % 3,)) for place in range(10))
         machine = Machine(3, ((),) * 11, deeds)

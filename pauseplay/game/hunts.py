@@ -5,6 +5,7 @@ safe by the rest of the ground if no answer to it leads into the ground.
 """
 
 from pauseplay.game.leads import all_led, all_led_off
+from pauseplay.game.ranks import is_any_met
 from pauseplay.game.waits import way_grids
 from pauseplay.lots.grids import earlier_grid
 from pauseplay.lots.joins import joined_grids, joined_into
@@ -22,7 +23,8 @@ def safe_grids(layout, place, spread):
 class Ground:
     """A ground, a spread, with what leads into it by the foe's deeds, and out of it by own deeds.
 
-    Only what is put in is looked at, at those places from which some deed leads there.
+    For each place there is what was put last: grids from which the foe's deeds newly lead
+    into the ground, and grids from which own deeds do not lead out of it any more.
     """
 
     def __init__(self, layout, bads):
@@ -37,31 +39,27 @@ class Ground:
         """Put the points of a spread to the ground."""
         both = [joined_into(grids, fresh) for grids, fresh in zip(self.spread, further)]
         self.spread = [grids for grids, _ in both]
-        self.stirred = [False for _ in self.spread]
+        self.fresh = [[] for _ in self.spread]
+        self.lost = [[] for _ in self.spread]
         for deed, (owner, start, goal, _, _) in enumerate(self.layout.all_deeds):
-            fresh = both[goal][1]
-            if fresh and self.layout.opened[deed] is not None:
-                led = grids_ahead_of_deed(self.layout, deed, fresh)
-                self.stirred[start] = self.stirred[start] or led != []
+            if self.layout.opened[deed] is not None:
+                led = grids_ahead_of_deed(self.layout, deed, both[goal][1])
                 if owner == "foe":
-                    self.into[deed] = joined_into(self.into[deed], led)[0]
-                else:
+                    self.into[deed], fresh = joined_into(self.into[deed], led)
+                    self.fresh[start].extend(fresh)
+                elif led:
                     self.off[deed] = joined_grids(grids_less(self.off[deed], led))
+                    self.lost[start].extend(led)
 
     def led_in(self, place):
         """Grids of the points at the place at which some deed of the foe leads into the ground."""
-        foes = deeds_from(self.layout, place, ("foe",))
-        return joined_grids([grid for deed in foes for grid in self.into[deed]])
+        return [grid for deed in deeds_from(self.layout, place, ("foe",)) for grid in self.into[deed]]
 
-    def led_off(self, place):
-        """Grids of the points at the place at which some own deed leads out of the ground."""
-        return [grid for deed in deeds_from(self.layout, place, ("own",)) for grid in self.off[deed]]
-
-    def hunted_at(self, place):
-        """Grids of the points at the place that have no offer, and cannot wait on, safely by the rest of the ground."""
-        met = self.led_in(place)
-        ahead = joined_grids([earlier_grid(grid) for grid in met])
-        return joined_grids(grids_less(ahead, way_grids(self.led_off(place), met)))
+    def ways_near(self, place, grids, met):
+        """Those grids that wait out of the ground by own deeds, past what is met, that can share a point with these."""
+        own = deeds_from(self.layout, place, ("own",))
+        off = [grid for deed in own for grid in self.off[deed] if is_any_met(earlier_grid(grid), grids)]
+        return way_grids(off, met)
 
     def are_hunted(self, place, grids):
         """Whether all points of the grids at the place have no offer that is safe by the rest of the ground."""
@@ -70,13 +68,27 @@ class Ground:
         met = self.led_in(place)
         if not are_covered(grids, [earlier_grid(grid) for grid in met]):
             return False
-        return grids_common(grids, way_grids(self.led_off(place), met)) == []
+        return grids_common(grids, self.ways_near(place, grids, met)) == []
+
+    def ahead_of_change(self, place, met):
+        """Grids of the points that can wait into what is met, and into what was put last."""
+        fresh = [earlier_grid(grid) for grid in self.fresh[place]]
+        if not self.lost[place]:
+            return fresh
+        lost = [earlier_grid(grid) for grid in self.lost[place]]
+        return fresh + grids_common(lost, [earlier_grid(grid) for grid in met])
 
     def added_at(self, place):
         """Grids of the points at the place that are hunted by the ground, and that it lacks in part."""
-        if place in self.bads or not self.stirred[place]:
+        if place in self.bads:
             return []
-        return uncovered_ones(self.hunted_at(place), self.spread[place])
+        met = self.led_in(place)
+        # Only from there can something have changed: a deed of the foe is met, or an own one has lost its worth.
+        changed = uncovered_ones(self.ahead_of_change(place, met), self.spread[place])
+        if not changed:
+            return []
+        hunted = joined_grids(grids_less(changed, self.ways_near(place, changed, met)))
+        return uncovered_ones(hunted, self.spread[place])
 
     def go_on(self):
         """Put in what is hunted by the ground; tell the spread of it, None if the ground has it all."""

@@ -21,13 +21,13 @@ def part_outside(grid, cutters, knots):
             cutter = best_cutter(part, near)
             if cutter is None:
                 return part
-            for rule, outside in parts_cut_off(part, cutter[1]):
+            for rule, outside in parts_cut_off(part, cutter.rules()):
                 inside_at, outside_at = len(knots), len(knots) + 1
                 knots.extend([None, None])
                 knots[at] = ("cut", (rule[0], rule[1], bound_of(rule[2])), inside_at, outside_at)
                 waiting.append((outside_at, outside, near))
                 at = inside_at
-            around = cutter[2]
+            around = cutter.index
         knots[at] = ("in", around)
     return None
 

@@ -1,8 +1,4 @@
-"""Lists of grids, and what is left of grids when others are cut off. Nothing is checked here.
-
-The others are told by *cutters*, triples of a grid, its rules as triples of two clocks and
-a code, and its index.
-"""
+"""Lists of grids, and what is left of grids when others are cut off. Nothing is checked here."""
 
 from pauseplay.lots.grids import LEAST_OF_RING, NO_BOUND, code_sum, cut_grid, is_grid_within, met_grid
 from pauseplay.lots.grids import opposite_code
@@ -47,9 +43,24 @@ def rules_to_cut(grid):
     return [rule for rule in rules if rule not in implied] + implied
 
 
+class Cutter:
+    """A grid that is cut off others, its index, and its rules: triples of two clocks and a code."""
+
+    def __init__(self, grid, index):
+        self.grid = grid
+        self.index = index
+        self.kept_rules = None
+
+    def rules(self):
+        """The rules; most cutters are never asked for them."""
+        if self.kept_rules is None:
+            self.kept_rules = rules_to_cut(self.grid)
+        return self.kept_rules
+
+
 def cutters_of(grids):
     """The cutters for some grids."""
-    return [(grid, rules_to_cut(grid), at) for at, grid in enumerate(grids)]
+    return [Cutter(grid, index) for index, grid in enumerate(grids)]
 
 
 def near_ones(grid, cutters):
@@ -59,15 +70,15 @@ def near_ones(grid, cutters):
         for to, code in enumerate(row):
             if at != to and code != NO_BOUND:
                 least = LEAST_OF_RING - code
-                left = [cutter for cutter in left if cutter[0][to][at] >= least]
+                left = [cutter for cutter in left if cutter.grid[to][at] >= least]
     return left
 
 
 def index_around(grid, cutters):
     """The index of the first one whose grid has all points of this one, None if there is none."""
-    for other, _, index in cutters:
-        if is_grid_within(grid, other):
-            return index
+    for cutter in cutters:
+        if is_grid_within(grid, cutter.grid):
+            return cutter.index
     return None
 
 
@@ -80,8 +91,8 @@ def best_cutter(grid, cutters):
     """Of those that share a point with the grid one whose rules cut it least often, None if there is none."""
     best, fewest = None, 0
     for cutter in cutters:
-        many = how_many_cut(grid, cutter[1])
-        if (best is None or many < fewest) and met_grid(grid, cutter[0]) is not None:
+        many = how_many_cut(grid, cutter.rules())
+        if (best is None or many < fewest) and met_grid(grid, cutter.grid) is not None:
             best, fewest = cutter, many
             # A grid that no cutter has within it is cut at least once by each.
             if fewest == 1:
@@ -102,7 +113,7 @@ def parts_cut_off(grid, rules):
 def grids_common(grids, others):
     """Grids with just the points that both lists of grids have."""
     cutters = cutters_of(thinned_grids(others))
-    met = [met_grid(grid, cutter[0]) for grid in thinned_grids(grids) for cutter in near_ones(grid, cutters)]
+    met = [met_grid(grid, cutter.grid) for grid in thinned_grids(grids) for cutter in near_ones(grid, cutters)]
     return thinned_grids([grid for grid in met if grid is not None])
 
 
@@ -121,12 +132,14 @@ def parts_left(grid, cutters, most=None):
             if cutter is None:
                 left.append(part)
             else:
-                waiting.extend([(outside, near) for _, outside in parts_cut_off(part, cutter[1])])
+                waiting.extend([(outside, near) for _, outside in parts_cut_off(part, cutter.rules())])
     return left
 
 
 def grids_less(grids, others):
     """Grids with just the points of the grids that the others lack."""
+    if not grids or not others:
+        return thinned_grids(grids)
     cutters = cutters_of(thinned_grids(others))
     return thinned_grids([part for grid in thinned_grids(grids) for part in parts_left(grid, cutters)])
 
